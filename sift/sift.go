@@ -1,0 +1,62 @@
+// Package sift selects lines of packed texts by patterns: see DOC.md.
+package sift
+
+import (
+	"sift/api"
+	"sift/machine"
+	"sift/syntax"
+)
+
+// Check tells the size of a pattern (P2).
+func Check(pattern string) (int, api.Errno) {
+	p, e := syntax.Read(pattern)
+	return p.Size, e
+}
+
+// Match tells whether a line is selected (P3).
+func Match(o api.Options, pattern string, line string) (bool, api.Errno) {
+	if o.Max < 0 {
+		return false, api.ErrOptions
+	}
+	p, e := syntax.Read(pattern)
+	if e != api.OK {
+		return false, e
+	}
+	if !isLine(line) {
+		return false, api.ErrText
+	}
+	m := machine.Build(p, o.Fold, o.Whole)
+	matched := m.Matches(line)
+	return matched != o.Invert, api.OK
+}
+
+// isLine looks at the length first, so that a line far too long costs nothing.
+func isLine(line string) bool {
+	if len(line) > api.MaxText {
+		return false
+	}
+	for i := 0; i < len(line); i++ {
+		if line[i] == api.Newline {
+			return false
+		}
+	}
+	return true
+}
+
+// Shape tells what a file is (P4).
+func Shape(file string) (api.Info, api.Errno) { return api.Info{}, api.OK }
+
+// Cut tells some bytes of a file's text (P5).
+func Cut(file string, from int, to int) (string, api.Errno) { return "", api.OK }
+
+// PackZ packs a text by a table (P6).
+func PackZ(text string, width int) (string, api.Errno) { return "", api.OK }
+
+// PackG packs a text by rules (P7).
+func PackG(text string) (string, api.Errno) { return "", api.OK }
+
+// Count tells how many lines are selected (P8).
+func Count(o api.Options, pattern string, file string) (int, api.Errno) { return 0, api.OK }
+
+// Grep prints the lines that are selected (P9).
+func Grep(o api.Options, pattern string, file string) (string, api.Errno) { return "", api.OK }
