@@ -12,12 +12,24 @@ import (
 // than with an answer.
 func oddStrings() []string {
 	odd := []string{"", "SG", "SZ", "SG\x00\x00\x00", "SZ\x09", "SG\xff\xff\xff\xff", "SZ\xff\xff\xff\xff"}
+	odd = append(odd, oddFiles()...)
 	for c := 0; c < 256; c++ {
 		odd = append(odd, string([]byte{byte(c)}))
 		odd = append(odd, strings.Repeat(string([]byte{byte(c)}), 39))
 	}
 	for _, s := range []string{"a", "(", ")", "()", "[", "\\", "|", "{9}", "a{9}", "\n", "\xff", "(a*)*"} {
 		odd = append(odd, strings.Repeat(s, 13), strings.Repeat(s, 1000), strings.Repeat(s, 3000000))
+	}
+	return odd
+}
+
+// oddFiles begin as files do.
+func oddFiles() []string {
+	odd := []string{rulesFile(doubled('a', 'b', 100), r0+99), rulesFile(doubled('a', 'b', 100), r0+39)}
+	for _, begin := range []string{"SG\x00", "SG\x64", "SG\x00\xe8\x03", "SZ\x09", "SZ\x0c"} {
+		for _, c := range []string{"\x00", "\x01", "a", "\xff", "\x00\x01", "\x01\x02\x04\x08"} {
+			odd = append(odd, begin+strings.Repeat(c, 300), begin+strings.Repeat(c, 999), begin+strings.Repeat(c, 3000000))
+		}
 	}
 	return odd
 }
@@ -71,6 +83,33 @@ func TestEveryAnswerDependsOnItsArgumentsAlone(t *testing.T) {
 		}
 		if a.line == "a" && a.errno != a.sizeErrno {
 			t.Errorf("P3: Match(%q, %q) tells %d, Check %d", a.pattern, a.line, a.errno, a.sizeErrno)
+		}
+	}
+}
+
+func TestEveryAnswerOfFilesDependsOnItsArgumentsAlone(t *testing.T) {
+	type told struct {
+		info      api.Info
+		infoErrno api.Errno
+		text      string
+		textErrno api.Errno
+	}
+	var first []told
+	for round := range 2 {
+		d := dice{state: 4}
+		for i := range 2000 {
+			files := []string{d.rulesFile(), d.codesFile()}
+			var a told
+			a.info, a.infoErrno = sift.Shape(files[i%2])
+			a.text, a.textErrno = sift.Cut(files[i%2], 0, d.below(50))
+			if round == 0 {
+				first = append(first, a)
+			} else if a != first[i] {
+				t.Fatalf("P1: answer %d is %+v, and the second time %+v", i, first[i], a)
+			}
+			if (a.infoErrno != api.OK && a.info != api.Info{}) || (a.textErrno != api.OK && a.text != "") {
+				t.Errorf("P1: beside an error: %+v", a)
+			}
 		}
 	}
 }

@@ -4,6 +4,7 @@ package sift
 import (
 	"sift/api"
 	"sift/machine"
+	"sift/packed"
 	"sift/syntax"
 )
 
@@ -44,10 +45,26 @@ func isLine(line string) bool {
 }
 
 // Shape tells what a file is (P4).
-func Shape(file string) (api.Info, api.Errno) { return api.Info{}, api.OK }
+func Shape(file string) (api.Info, api.Errno) {
+	t, e := packed.Read(file)
+	if e != api.OK {
+		return api.Info{}, e
+	}
+	lines := t.Lines()
+	return api.Info{Kind: t.Kind, Symbols: t.Symbols, Length: t.Whole.Length, Lines: lines}, api.OK
+}
 
 // Cut tells some bytes of a file's text (P5).
-func Cut(file string, from int, to int) (string, api.Errno) { return "", api.OK }
+func Cut(file string, from int, to int) (string, api.Errno) {
+	t, e := packed.Read(file)
+	if e != api.OK {
+		return "", e
+	}
+	if from < 0 || to < from || to > t.Whole.Length || to-from > api.MaxOut {
+		return "", api.ErrRange
+	}
+	return t.Cut(from, to), api.OK
+}
 
 // PackZ packs a text by a table (P6).
 func PackZ(text string, width int) (string, api.Errno) { return "", api.OK }
