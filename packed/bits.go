@@ -37,3 +37,28 @@ func (r *bitReader) next() int {
 	r.at++
 	return bit
 }
+
+type bitWriter struct {
+	bytes []byte
+	rest  int // the bits that do not fill a byte yet
+	bits  int // how many these are
+}
+
+// number writes a number of so many bits, the lowest one first.
+func (w *bitWriter) number(n int, bits int) {
+	w.rest |= n << uint(w.bits)
+	w.bits += bits
+	for w.bits >= 8 {
+		w.bytes = append(w.bytes, byte(w.rest))
+		w.rest >>= 8
+		w.bits -= 8
+	}
+}
+
+// end fills the last byte with bits that are 0, and tells all bytes.
+func (w *bitWriter) end() string {
+	if w.bits > 0 {
+		w.number(0, 8-w.bits)
+	}
+	return string(w.bytes)
+}

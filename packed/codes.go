@@ -2,7 +2,7 @@ package packed
 
 import "sift/api"
 
-// none stands for the code ahead where there is none.
+// none stands for a code where there is none.
 const none = -1
 
 // codeReader makes a rule of each entry that joins the table: the code ahead,
@@ -47,8 +47,13 @@ func (r *codeReader) free() int {
 
 func (r *codeReader) width() int {
 	free := r.free()
+	return widthOf(free, r.most)
+}
+
+// widthOf tells the width of the next code, where a table has that free number.
+func widthOf(free int, most int) int {
 	width := api.MinWidth
-	for width < r.most && free >= 1<<uint(width) {
+	for width < most && free >= 1<<uint(width) {
 		width++
 	}
 	return width

@@ -1,6 +1,6 @@
-// Package packed reads packed files. It turns both kinds of them into rules of
-// two symbols each, so that what is found out of a rule's text is found out
-// once, however often the rule stands somewhere.
+// Package packed reads and writes packed files. What it reads, of both kinds, it
+// turns into rules of two symbols each, so that what is found out of a rule's
+// text is found out once, however often the rule stands somewhere.
 package packed
 
 import "sift/api"

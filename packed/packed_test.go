@@ -124,6 +124,58 @@ func TestCutLeavesTheTextAsItIs(t *testing.T) {
 	}
 }
 
+func TestBitsWrittenAreRead(t *testing.T) {
+	w := bitWriter{}
+	for n := range 5000 {
+		w.number(n, 13+n%4)
+	}
+	r := bitReader{bytes: w.end()}
+	for n := range 5000 {
+		if got := r.number(13 + n%4); got != n {
+			t.Fatalf("number %d was read as %d", n, got)
+		}
+	}
+	if !r.readEnd() {
+		t.Error("bits are left that are 1, or a whole byte of them")
+	}
+}
+
+func TestWrittenFilesAreRead(t *testing.T) {
+	codes, e := Read(WriteCodes("aaab", 9))
+	want := Text{
+		Kind:    KindCodes,
+		Symbols: 3,
+		Rules: []Rule{
+			{Left: 'a', Right: 'a', Part: Part{Length: 2, First: 'a', Last: 'a'}},
+			{Left: 256, Right: 'b', Part: Part{Length: 3, First: 'a', Last: 'b'}},
+		},
+		Start: []int{'a', 256, 'b'},
+		Whole: Part{Length: 4, First: 'a', Last: 'b'},
+	}
+	if e != api.OK || !reflect.DeepEqual(codes, want) {
+		t.Errorf("codes: %+v, %d, want %+v", codes, e, want)
+	}
+	rules, e := Read(WriteRules("a\na\nb"))
+	want = Text{
+		Kind:    KindRules,
+		Symbols: 3,
+		Rules:   []Rule{{Left: 'a', Right: '\n', Part: Part{Length: 2, Newlines: 1, First: 'a', Last: '\n'}}},
+		Start:   []int{256, 256, 'b'},
+		Whole:   Part{Length: 5, Newlines: 2, First: 'a', Last: 'b'},
+	}
+	if e != api.OK || !reflect.DeepEqual(rules, want) {
+		t.Errorf("rules: %+v, %d, want %+v", rules, e, want)
+	}
+}
+
+func BenchmarkPack(b *testing.B) {
+	text := strings.Repeat("abacabadabacabae\n", 35)
+	for range b.N {
+		WriteCodes(text, 12)
+		WriteRules(text)
+	}
+}
+
 func BenchmarkReadAndCut(b *testing.B) {
 	file := "SZ\x0c" + strings.Repeat("\x00", 3997)
 	for range b.N {

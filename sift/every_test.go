@@ -114,6 +114,26 @@ func TestEveryAnswerOfFilesDependsOnItsArgumentsAlone(t *testing.T) {
 	}
 }
 
+func TestEveryPackedFileDependsOnItsArgumentsAlone(t *testing.T) {
+	var first []string
+	for round := range 2 {
+		d := dice{state: 8}
+		for i := range 500 {
+			text := d.text()
+			codes, codesErrno := sift.PackZ(text, 8+i%6)
+			rules, rulesErrno := sift.PackG(text)
+			if codesErrno != api.OK && codes != "" || rulesErrno != api.OK {
+				t.Errorf("P1: packed files %.60q, %d, %.60q, %d", codes, codesErrno, rules, rulesErrno)
+			}
+			if round == 0 {
+				first = append(first, codes+rules)
+			} else if codes+rules != first[i] {
+				t.Fatalf("P1: packed files %d are %.60q, and the first time %.60q", i, codes+rules, first[i])
+			}
+		}
+	}
+}
+
 type answer struct {
 	pattern   string
 	line      string

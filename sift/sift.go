@@ -67,10 +67,23 @@ func Cut(file string, from int, to int) (string, api.Errno) {
 }
 
 // PackZ packs a text by a table (P6).
-func PackZ(text string, width int) (string, api.Errno) { return "", api.OK }
+func PackZ(text string, width int) (string, api.Errno) {
+	if len(text) > api.MaxText {
+		return "", api.ErrText
+	}
+	if width < api.MinWidth || width > api.MaxWidth {
+		return "", api.ErrRange
+	}
+	return packed.WriteCodes(text, width), api.OK
+}
 
 // PackG packs a text by rules (P7).
-func PackG(text string) (string, api.Errno) { return "", api.OK }
+func PackG(text string) (string, api.Errno) {
+	if len(text) > api.MaxText {
+		return "", api.ErrText
+	}
+	return packed.WriteRules(text), api.OK
+}
 
 // Count tells how many lines are selected (P8).
 func Count(o api.Options, pattern string, file string) (int, api.Errno) { return 0, api.OK }
