@@ -8,61 +8,59 @@ import (
 	"sift/syntax"
 )
 
-const (
-	start = api.MaxSize     // in the set: a match can begin here
-	found = api.MaxSize + 1 // in the set: a match has ended already
-
-	startBit uint64 = 1 << start
-	foundBit uint64 = 1 << found
-)
-
 // Machine is a pattern, made ready for lines.
 type Machine struct {
-	whole  bool
-	next   [start + 1]uint64
-	takes  [256]uint64 // the steps that each byte can be
-	begins uint64      // the steps that are ^
-	ends   uint64      // the steps that are $
-	last   uint64      // a match can end behind these
+	Begin  Set // what there is ahead of a line's first byte
+	Enough Set // a line is matched if one of these is there behind its last byte
+
+	next   table
+	takes  [256]Set // the states that each byte can lead to
+	begins Set      // the steps that are ^
+	ends   Set      // the steps that are $
+	last   Set      // a match can end behind these
 }
 
 // Build makes a machine of a pattern that syntax.Read has read.
 func Build(pattern syntax.Pattern, fold bool, whole bool) Machine {
 	all := write(pattern.Nodes)
-	m := Machine{whole: whole, last: all.last}
-	m.next[start] = all.first
+	m := Machine{last: all.last}
+	m.next.to[start] = all.first
 	if all.empty {
 		m.last |= startBit
 	}
 	for i := 0; i < all.count && i < api.MaxSize; i++ {
-		m.next[i] = all.next[i]
+		m.next.to[i] = all.next[i]
 		node := all.node[i]
 		if node >= 0 && node < len(pattern.Nodes) {
-			m.learn(uint64(1)<<uint(i), pattern.Nodes[node], fold)
+			m.learn(Set(1)<<uint(i), pattern.Nodes[node], fold)
 		}
+	}
+	m.findEnds()
+	if !whole {
+		m.allowAnywhere()
 	}
 	return m
 }
 
-func (m *Machine) learn(step uint64, node syntax.Node, fold bool) {
+func (m *Machine) learn(state Set, node syntax.Node, fold bool) {
 	switch node.Kind {
 	case syntax.Begin:
-		m.begins |= step
+		m.begins |= state
 	case syntax.End:
-		m.ends |= step
+		m.ends |= state
 	case syntax.Bytes:
-		m.learnBytes(step, node, fold)
+		m.learnBytes(state, node, fold)
 	}
 }
 
-func (m *Machine) learnBytes(step uint64, node syntax.Node, fold bool) {
+func (m *Machine) learnBytes(state Set, node syntax.Node, fold bool) {
 	for c := 0; c < 256; c++ {
 		in := holds(node.Items, c)
 		if fold && !in {
 			in = holds(node.Items, otherCase(c))
 		}
 		if in != node.Not {
-			m.takes[c] |= step
+			m.takes[c] |= state
 		}
 	}
 }
@@ -86,58 +84,57 @@ func otherCase(c int) int {
 	return c
 }
 
-// Matches tells whether a line is matched.
-func (m *Machine) Matches(line string) bool {
-	set := m.begin()
-	for i := 0; i < len(line); i++ {
-		set = m.behind(set, line[i])
-	}
-	return m.accepts(set, len(line) == 0)
-}
-
-func (m *Machine) begin() uint64 {
-	return m.still(startBit, m.begins)
-}
-
-func (m *Machine) behind(set uint64, c byte) uint64 {
-	steps := m.follow(set)
-	after := steps & m.takes[c]
-	if m.whole {
-		return after
-	}
-	if set&m.last != 0 {
-		after |= foundBit
-	}
-	return after | set&foundBit | startBit
-}
-
-// accepts asks whether the line is empty, because there its only place is the
-// first and the last one, and ^ may still come behind $.
-func (m *Machine) accepts(set uint64, empty bool) bool {
-	free := m.ends
-	if empty {
-		free |= m.begins
-	}
-	set = m.still(set, free)
-	return set&(m.last|foundBit) != 0
-}
-
-// still adds what can be reached without a byte, by the free steps alone. A way
-// that goes through each step at most once is enough.
-func (m *Machine) still(set uint64, free uint64) uint64 {
+// findEnds finds out what is at the two ends of a line. In an empty line they are
+// the same place, where ^ may still come behind $: that is why fresh is there.
+func (m *Machine) findEnds() {
+	begins := Way{table: &m.next, takes: m.begins}
+	m.Begin = startBit | freshBit
 	for i := 0; i < api.MaxSize; i++ {
-		steps := m.follow(set)
-		set |= steps & free
+		m.Begin |= begins.From(m.Begin)
 	}
-	return set
+	m.Enough = m.enoughBy(m.ends)
+	if m.Begin&m.enoughBy(m.ends|m.begins) != 0 {
+		m.Enough |= freshBit
+	}
 }
 
-func (m *Machine) follow(set uint64) uint64 {
-	var steps uint64
-	for i := 0; i <= start; i++ {
-		if has(set, i) {
-			steps |= m.next[i]
+// enoughBy tells behind which states a match ends without a byte more, where it
+// can go on by the free steps. A way that goes through each of them at most once
+// is enough.
+func (m *Machine) enoughBy(free Set) Set {
+	way := Way{table: &m.next, takes: free}
+	enough := m.last | foundBit
+	for i := 0; i < api.MaxSize && free != 0; i++ {
+		enough |= way.Into(enough)
+	}
+	return enough
+}
+
+// allowAnywhere lets a match begin and end within a line: each byte goes from
+// start to start again, and from the end of a match to found, as a step would.
+func (m *Machine) allowAnywhere() {
+	m.next.to[start] |= startBit
+	for i := 0; i < states; i++ {
+		if m.last.has(i) || i == found {
+			m.next.to[i] |= foundBit
 		}
 	}
-	return steps
+	for c := 0; c < len(m.takes); c++ {
+		m.takes[c] |= startBit | foundBit
+	}
+}
+
+// Way tells the way through one byte.
+func (m *Machine) Way(c byte) Way {
+	return Way{table: &m.next, takes: m.takes[c]}
+}
+
+// Matches tells whether a line is matched.
+func (m *Machine) Matches(line string) bool {
+	set := m.Begin
+	for i := 0; i < len(line); i++ {
+		way := m.Way(line[i])
+		set = way.From(set)
+	}
+	return set&m.Enough != 0
 }

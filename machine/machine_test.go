@@ -54,6 +54,46 @@ func TestLinesLeaveTheMachineAsItIs(t *testing.T) {
 	}
 }
 
+// wayOf joins the ways of a line's bytes, of which there is at least one.
+func wayOf(m *Machine, line string) Way {
+	way := m.Way(line[0])
+	for i := 1; i < len(line); i++ {
+		way = way.Then(m.Way(line[i]))
+	}
+	return way
+}
+
+func TestWaysOfParts(t *testing.T) {
+	for _, text := range []string{"", "ab", "^a", "b$", "a*b?$", "(ab){2,}", "x?^a", "a{9}{6}b{6}"} {
+		for _, whole := range []bool{false, true} {
+			m := build(text, false, whole)
+			for _, line := range []string{"ab", "ba", "abab", "aabb", "xab", "bbbab"} {
+				for i := 1; i < len(line); i++ {
+					left, right := wayOf(&m, line[:i]), wayOf(&m, line[i:])
+					set := left.From(m.Begin)
+					if right.From(set) != wayOf(&m, line).From(m.Begin) {
+						t.Errorf("%q: the way of %q from %q on is another one", text, line, line[i:])
+					}
+					if (right.From(set)&m.Enough != 0) != m.Matches(line) {
+						t.Errorf("%q: %q is matched otherwise in two parts", text, line)
+					}
+					if (set&right.Into(m.Enough) != 0) != m.Matches(line) {
+						t.Errorf("%q: %q is matched otherwise backwards", text, line)
+					}
+				}
+			}
+		}
+	}
+}
+
+func TestWayOfNothing(t *testing.T) {
+	m := build("a", false, false)
+	none := Way{}
+	if none.From(m.Begin) != 0 || none.Into(m.Enough) != 0 || none.Then(m.Way('a')) != none {
+		t.Error("a way without a table goes somewhere")
+	}
+}
+
 func TestBuildOfNoNodes(t *testing.T) {
 	m := Build(syntax.Pattern{}, false, true)
 	if !m.Matches("") || m.Matches("a") {

@@ -12,9 +12,9 @@ import (
 type part struct {
 	count int
 	empty bool // matches without any step
-	first uint64
-	last  uint64
-	next  [api.MaxSize]uint64
+	first Set
+	last  Set
+	next  [api.MaxSize]Set
 	node  [api.MaxSize]int // the pattern's node that the step is made from
 }
 
@@ -113,15 +113,11 @@ func beside(a part, b part) part {
 	return c
 }
 
-func linked(a part, from uint64, to uint64) part {
+func linked(a part, from Set, to Set) part {
 	for i := 0; i < api.MaxSize; i++ {
-		if has(from, i) {
+		if from.has(i) {
 			a.next[i] |= to
 		}
 	}
 	return a
-}
-
-func has(set uint64, step int) bool {
-	return set>>uint(step)&1 == 1
 }

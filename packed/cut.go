@@ -36,7 +36,7 @@ func (c *cutter) symbol(symbol int) {
 		c.at = behind
 		return
 	}
-	rule := c.text.rule(symbol)
+	rule := c.text.Rule(symbol)
 	c.symbol(rule.Left)
 	c.symbol(rule.Right)
 }

@@ -56,7 +56,7 @@ func (t *Text) Part(symbol int) Part {
 	if symbol < api.Rule {
 		return partOfByte(symbol)
 	}
-	return t.rule(symbol).Part
+	return t.Rule(symbol).Part
 }
 
 // Lines tells how many lines the text has.
@@ -67,7 +67,8 @@ func (t *Text) Lines() int {
 	return t.Whole.Newlines
 }
 
-func (t *Text) rule(symbol int) Rule {
+// Rule tells the rule that a symbol stands for.
+func (t *Text) Rule(symbol int) Rule {
 	k := symbol - api.Rule
 	if k < 0 || k >= len(t.Rules) {
 		return Rule{}

@@ -134,6 +134,38 @@ func TestEveryPackedFileDependsOnItsArgumentsAlone(t *testing.T) {
 	}
 }
 
+func TestEveryAnswerOfLinesDependsOnItsArgumentsAlone(t *testing.T) {
+	type told struct {
+		count      int
+		countErrno api.Errno
+		out        string
+		outErrno   api.Errno
+	}
+	var first []told
+	for round := range 2 {
+		d := dice{state: 15}
+		for i := range 2000 {
+			file := []string{d.rulesFile(), d.codesFile()}[i%2]
+			o, pattern := d.allOptions(), somePatterns[d.below(len(somePatterns))]
+			o.Max -= d.below(9) / 8
+			var a told
+			a.count, a.countErrno = sift.Count(o, pattern, file)
+			a.out, a.outErrno = sift.Grep(o, pattern, file)
+			if round == 0 {
+				first = append(first, a)
+			} else if a != first[i] {
+				t.Fatalf("P1: answer %d is %+v, and the first time %+v", i, a, first[i])
+			}
+			if (a.countErrno != api.OK && a.count != 0) || (a.outErrno != api.OK && a.out != "") {
+				t.Errorf("P1: beside an error: %+v", a)
+			}
+			if a.countErrno != a.outErrno && (a.countErrno != api.OK || a.outErrno != api.ErrOut) {
+				t.Errorf("P9: Grep tells %d, Count %d", a.outErrno, a.countErrno)
+			}
+		}
+	}
+}
+
 type answer struct {
 	pattern   string
 	line      string

@@ -5,6 +5,7 @@ import (
 	"sift/api"
 	"sift/machine"
 	"sift/packed"
+	"sift/search"
 	"sift/syntax"
 )
 
@@ -16,10 +17,7 @@ func Check(pattern string) (int, api.Errno) {
 
 // Match tells whether a line is selected (P3).
 func Match(o api.Options, pattern string, line string) (bool, api.Errno) {
-	if o.Max < 0 {
-		return false, api.ErrOptions
-	}
-	p, e := syntax.Read(pattern)
+	p, e := read(o, pattern)
 	if e != api.OK {
 		return false, e
 	}
@@ -29,6 +27,14 @@ func Match(o api.Options, pattern string, line string) (bool, api.Errno) {
 	m := machine.Build(p, o.Fold, o.Whole)
 	matched := m.Matches(line)
 	return matched != o.Invert, api.OK
+}
+
+// read reads the pattern, where the options are such as there may be.
+func read(o api.Options, pattern string) (syntax.Pattern, api.Errno) {
+	if o.Max < 0 {
+		return syntax.Pattern{}, api.ErrOptions
+	}
+	return syntax.Read(pattern)
 }
 
 // isLine looks at the length first, so that a line far too long costs nothing.
@@ -86,7 +92,37 @@ func PackG(text string) (string, api.Errno) {
 }
 
 // Count tells how many lines are selected (P8).
-func Count(o api.Options, pattern string, file string) (int, api.Errno) { return 0, api.OK }
+func Count(o api.Options, pattern string, file string) (int, api.Errno) {
+	s, e := open(o, pattern, file)
+	if e != api.OK {
+		return 0, e
+	}
+	return s.Count(), api.OK
+}
 
 // Grep prints the lines that are selected (P9).
-func Grep(o api.Options, pattern string, file string) (string, api.Errno) { return "", api.OK }
+func Grep(o api.Options, pattern string, file string) (string, api.Errno) {
+	s, e := open(o, pattern, file)
+	if e != api.OK {
+		return "", e
+	}
+	out, fits := s.Print(o.Number)
+	if !fits {
+		return "", api.ErrOut
+	}
+	return out, api.OK
+}
+
+// open makes a file's text ready to be searched.
+func open(o api.Options, pattern string, file string) (search.Search, api.Errno) {
+	p, e := read(o, pattern)
+	if e != api.OK {
+		return search.Search{}, e
+	}
+	t, e := packed.Read(file)
+	if e != api.OK {
+		return search.Search{}, e
+	}
+	m := machine.Build(p, o.Fold, o.Whole)
+	return search.New(&t, &m, o), api.OK
+}
